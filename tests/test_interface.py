@@ -1,0 +1,53 @@
+"""The names, arguments and files of the interface, as far as it has landed."""
+
+import ast
+import importlib
+import inspect
+import unittest
+
+FUNCTIONS = {
+    "programs": {
+        "renamed": ["program", "names"], "backward": ["program"], "turned": ["program", "matrix"],
+        "stretched": ["program", "times"], "beside": ["one", "other"], "without": ["program", "lot"],
+        "alone": ["program", "lot"], "also": ["program", "reading"],
+    },
+    "logs": {
+        "is_walk": ["program", "thing"], "is_log": ["program", "thing"], "is_turn": ["program", "world", "thing"],
+        "length": ["program", "log"], "visits": ["program", "log", "table"], "added": ["program", "log"],
+        "reach": ["program", "log"], "written_out": ["program", "log"], "ends_of": ["program", "log"],
+    },
+}
+CLASSES = {"programs": {"Program": {"__init__": ["self", "sides", "tables", "readings"], "__eq__": ["self", "other"]}}}
+
+
+def defined_in(module):
+    """All that a module's file itself defines, by name."""
+    tree = ast.parse(inspect.getsource(module))
+    return {node.name: node for node in tree.body if isinstance(node, (ast.FunctionDef, ast.ClassDef))}
+
+
+def arguments_of(node):
+    return [argument.arg for argument in node.args.args]
+
+
+class Interface(unittest.TestCase):
+    def test_functions_stand_in_their_files(self):
+        for name, functions in FUNCTIONS.items():
+            module = importlib.import_module(f"turnsneeded.{name}")
+            there = defined_in(module)
+            for word, arguments in functions.items():
+                self.assertIsInstance(there[word], ast.FunctionDef)
+                self.assertEqual(arguments_of(there[word]), arguments)
+                self.assertTrue(callable(getattr(module, word)))
+
+    def test_classes_stand_in_their_files_with_their_own_methods(self):
+        for name, classes in CLASSES.items():
+            there = defined_in(importlib.import_module(f"turnsneeded.{name}"))
+            for word, methods in classes.items():
+                own = {node.name: node for node in there[word].body if isinstance(node, ast.FunctionDef)}
+                for method, arguments in methods.items():
+                    self.assertEqual(arguments_of(own[method]), arguments)
+
+
+if __name__ == "__main__":
+    unittest.main()

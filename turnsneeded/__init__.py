@@ -1,0 +1,1 @@
+"""Turnsneeded: how many loops must stand one inside another, whatever the size."""
