@@ -317,17 +317,37 @@ class Made(unittest.TestCase):
             self.assertIn((0, 0, (many,)), also(LINE, (0, 0, (many,))).readings)
 
     def test_also_a_reading_that_is_there(self):
-        for program in ALL_PROGRAMS + (LONGEST,):
+        for program in ALL_PROGRAMS:
             for reading in program.readings:
-                self.assertEqual(also(program, reading), program)
+                if all(abs(part) <= LONG for part in reading[2]):
+                    self.assertEqual(also(program, reading), program)
+
+    def test_also_a_reading_with_too_long_a_step(self):
+        # Returned programs may have such steps; what is passed is judged as where a program is constructed (1.1).
+        for many in (LONG + 1, -LONG - 1, 10 ** 79, -10 ** 79):
+            with self.assertRaises(NoReading):
+                also(LINE, (0, 0, (many,)))
+            for side in range(4):
+                step = tuple(many if k == side else 1 for k in range(4))
+                for program in (FULL, GREAT, LONGEST):
+                    with self.assertRaises(NoReading):
+                        also(program, (0, 7, step))
+        for program in (GREAT, LONGEST):
+            for reading in program.readings:
+                if any(abs(part) > LONG for part in reading[2]):
+                    with self.assertRaises(NoReading):
+                        also(program, reading)
+
+    def test_also_to_a_program_with_longer_steps(self):
+        for program in (GREAT, LONGEST):
+            for step in ((LONG, -LONG, LONG, -LONG), (0, 0, 0, 1)):
+                self.same(also(program, (15, 0, step)), 4, 16, [*program.readings, (15, 0, step)])
 
     def test_also_beyond_what_may_be_constructed(self):
         more = also(FULL, (7, 7, (0, 0, 0, 0)))
         self.same(more, 4, 8, list(FULL.readings) + [(7, 7, (0, 0, 0, 0))])
         self.assertEqual(len(more.readings), 25)
         self.same(also(GREAT, (15, 0, (1, 2, 3, 4))), 4, 16, list(GREAT.readings) + [(15, 0, (1, 2, 3, 4))])
-        # Sizes are bounded only where a program is constructed (1.1).
-        self.same(also(LINE, (0, 0, (LONG + 1,))), 1, 1, [(0, 0, (1,)), (0, 0, (LONG + 1,))])
 
     def test_also_no_reading(self):
         for reading in [*odd_things(), [0, 0, (1,)], (0, 0, [1]), (0, 0), (0, 0, (1,), 0), (0, 0, 1), (0, 0, ()),

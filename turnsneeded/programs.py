@@ -21,7 +21,7 @@ class Program:
         if not isinstance(readings, tuple) or len(readings) > MOST_READINGS:
             raise BadProgram("readings")
         for k, reading in enumerate(readings):
-            if not is_short_reading(sides, tables, reading):
+            if not is_reading(sides, tables, reading):
                 raise BadProgram(k)
             if k > 0 and reading <= readings[k - 1]:
                 raise BadProgram(k)
@@ -35,15 +35,10 @@ class Program:
 
 
 def is_reading(sides, tables, thing):
-    """Whether a thing is a reading, with a step of whatever length."""
+    """Whether a thing that is passed is a reading; those of programs that were returned may have longer steps."""
     return (isinstance(thing, tuple) and len(thing) == 3
             and is_int_in(thing[0], 0, tables - 1) and is_int_in(thing[1], 0, tables - 1)
-            and is_row_of_ints(thing[2], sides))
-
-
-def is_short_reading(sides, tables, thing):
-    """Whether a thing is a reading that a program may be constructed with."""
-    return (is_reading(sides, tables, thing)
+            and is_row_of_ints(thing[2], sides)
             and all([-LONGEST_STEP <= part <= LONGEST_STEP for part in thing[2]]))
 
 
