@@ -16,8 +16,14 @@ FUNCTIONS = {
         "length": ["program", "log"], "visits": ["program", "log", "table"], "added": ["program", "log"],
         "reach": ["program", "log"], "written_out": ["program", "log"], "ends_of": ["program", "log"],
     },
+    "texts": {"program_text": ["program"], "log_text": ["program", "log"]},
+    "reading": {"read_program": ["text"], "read_log": ["program", "text"]},
+    "tasks": {"answer": ["task"], "is_answer": ["task", "thing"], "kind": ["task"], "best_worth": ["task"]},
 }
-CLASSES = {"programs": {"Program": {"__init__": ["self", "sides", "tables", "readings"], "__eq__": ["self", "other"]}}}
+CLASSES = {
+    "programs": {"Program": {"__init__": ["self", "sides", "tables", "readings"], "__eq__": ["self", "other"]}},
+    "tasks": {"Task": {"__init__": ["self", "rows", "amounts", "worths"], "__eq__": ["self", "other"]}},
+}
 
 
 def defined_in(module):

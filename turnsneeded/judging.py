@@ -30,3 +30,18 @@ def is_lot(thing, many):
 def is_world(thing):
     """Whether a thing is the word of a world."""
     return isinstance(thing, str) and thing in WORLDS
+
+
+def is_box(thing, sides):
+    """Whether a thing is a box with so many sides."""
+    return is_row_of_ints(thing, sides) and all([part >= 1 for part in thing])
+
+
+def is_same(thing, told):
+    """Whether a thing is the same in kind, too, as what is told by tuples, strings and integers."""
+    if isinstance(told, tuple):
+        return (isinstance(thing, tuple) and len(thing) == len(told)
+                and all([is_same(one, two) for one, two in zip(thing, told)]))
+    if isinstance(told, str):
+        return isinstance(thing, str) and thing == told
+    return is_int(thing) and thing == told
