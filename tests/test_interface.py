@@ -19,6 +19,20 @@ FUNCTIONS = {
     "texts": {"program_text": ["program"], "log_text": ["program", "log"]},
     "reading": {"read_program": ["text"], "read_log": ["program", "text"]},
     "tasks": {"answer": ["task"], "is_answer": ["task", "thing"], "kind": ["task"], "best_worth": ["task"]},
+    "flows": {
+        "is_flow": ["program", "lot", "world", "thing"], "is_row": ["program", "lot", "world", "thing"],
+        "kept": ["program", "lot", "world"], "flow": ["program", "lot", "world"], "row": ["program", "lot", "world"],
+    },
+    "levels": {
+        "parts": ["program", "lot"], "tables_of": ["program", "lot"], "levels": ["program", "world"],
+        "is_levels": ["program", "world", "thing"], "works": ["program", "world"], "depths": ["program", "world"],
+    },
+    "turns": {"turn": ["program", "world"], "shortest_turn": ["program", "most"]},
+    "timetables": {
+        "timetable": ["program", "world"], "is_timetable": ["program", "world", "thing"],
+        "time_at": ["program", "timetable", "table", "point"], "lag": ["program", "timetable", "number"],
+        "spread": ["program", "timetable", "table", "box"],
+    },
 }
 CLASSES = {
     "programs": {"Program": {"__init__": ["self", "sides", "tables", "readings"], "__eq__": ["self", "other"]}},

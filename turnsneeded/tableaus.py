@@ -172,10 +172,12 @@ def climb(tableau):
 
 
 def worked_out(tableau):
-    """The pair of the word of the task and the place that may grow for ever, or None."""
+    """The pair of the word of the task and of the place that may grow for ever, None where there is none."""
     fill(tableau)
     if tableau.rows[-1][-2] > 0:
         return "none", None
     dismiss_helpers(tableau)
     place = climb(tableau)
-    return "best" if place is None else "endless", place
+    if place is None:
+        return "best", None
+    return "endless", place
