@@ -33,6 +33,19 @@ FUNCTIONS = {
         "time_at": ["program", "timetable", "table", "point"], "lag": ["program", "timetable", "number"],
         "spread": ["program", "timetable", "table", "box"],
     },
+    "chains": {
+        "chain_width": ["program", "table"], "chain": ["program", "table", "n"], "is_chain": ["program", "table", "n", "thing"],
+    },
+    "boxes": {
+        "fits": ["program", "box", "log"], "works_in": ["program", "box"], "is_ring_in": ["program", "box", "thing"],
+        "is_chain_in": ["program", "box", "thing"], "ring_in": ["program", "box"], "longest": ["program", "box", "table"],
+        "turns_with": ["program", "box", "workers"], "longest_chain": ["program", "box", "table"],
+        "waits_for": ["program", "box", "table", "point"], "waves": ["program", "box"], "least_cube": ["program", "most"],
+    },
+    "working": {
+        "worked": ["program", "meaning", "modulus", "border", "box"], "is_order": ["program", "box", "thing"],
+        "ready": ["program", "box", "done"], "led": ["program", "box", "stranger"],
+    },
 }
 CLASSES = {
     "programs": {"Program": {"__init__": ["self", "sides", "tables", "readings"], "__eq__": ["self", "other"]}},

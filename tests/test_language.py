@@ -149,7 +149,8 @@ class Code(unittest.TestCase):
         for path, tree in TREES.items():
             taken = {alias.name for node in tree.body if isinstance(node, ast.ImportFrom) for alias in node.names}
             taken |= {node.name for node in tree.body if isinstance(node, ast.ClassDef)}
-            for node in tree.body:
+            methods = [part for node in tree.body if isinstance(node, ast.ClassDef) for part in node.body]
+            for node in tree.body + methods:
                 if isinstance(node, ast.FunctionDef):
                     self.assertEqual(taken & (set(bound_names(node)) - {node.name}), set(), (path.name, node.name))
 
@@ -169,6 +170,26 @@ class Code(unittest.TestCase):
         # Program has an __eq__, beside which any, all, sum and the like take lists.
         for path, node in nodes(ast.GeneratorExp):
             self.fail((path, node.lineno))
+
+    def test_no_name_is_a_method_and_an_attribute(self):
+        methods = {part.name for _, node in nodes(ast.ClassDef) for part in node.body if isinstance(part, ast.FunctionDef)}
+        attributes = {node.attr for _, node in nodes(ast.Attribute) if isinstance(node.ctx, ast.Store)}
+        self.assertEqual(methods & attributes, set())
+
+    def test_nothing_is_added_to_sets(self):
+        # Bench and Sheet have a method add, beside which no set is added to.
+        for path, node in nodes(ast.Attribute):
+            self.assertNotIn(node.attr, ("add", "discard", "sort"), (path, node.lineno))
+
+    def test_no_error_of_python_is_caught(self):
+        for path, node in nodes(ast.ExceptHandler):
+            self.fail((path, node.lineno))
+
+    def test_finally_holds_plain_assignments_alone(self):
+        for path, node in nodes(ast.Try):
+            for part in node.finalbody:
+                self.assertIsInstance(part, ast.Assign, (path, part.lineno))
+                self.assertEqual([one for one in ast.walk(part) if isinstance(one, (ast.Call, ast.Subscript))], [], path)
 
     def test_raise_creates_its_error_on_the_spot(self):
         for path, node in nodes(ast.Raise):

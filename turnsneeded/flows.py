@@ -1,8 +1,9 @@
 """Flows of readings, and rows by which the readings without one are later."""
 
+from turnsneeded.checks import check_world
 from turnsneeded.cones import both_sides, common_of
-from turnsneeded.errors import NoLot, NoWorld
-from turnsneeded.judging import is_lot, is_row_of_ints, is_world
+from turnsneeded.errors import NoLot
+from turnsneeded.judging import is_lot, is_row_of_ints
 from turnsneeded.ratios import weighed
 
 
@@ -10,8 +11,7 @@ def check_lot_and_world(program, lot, world):
     """Raises NoLot or NoWorld for what is none."""
     if not is_lot(lot, len(program.readings)):
         raise NoLot()
-    if not is_world(world):
-        raise NoWorld()
+    check_world(world)
 
 
 def sums_of(program, lot, world):

@@ -1,8 +1,9 @@
 """Parts of readings that wait for one another, and the levels of parts within parts."""
 
-from turnsneeded.errors import NoLot, NoWorld
+from turnsneeded.checks import check_world
+from turnsneeded.errors import NoLot
 from turnsneeded.flows import kept_ones
-from turnsneeded.judging import is_lot, is_same, is_world
+from turnsneeded.judging import is_lot, is_same
 
 
 def check_lot(program, lot):
@@ -61,8 +62,7 @@ def tables_of(program, lot):
 
 def levels(program, world):
     """The levels of all readings of a program."""
-    if not is_world(world):
-        raise NoWorld()
+    check_world(world)
     return levels_of(program, tuple(range(len(program.readings))), world)
 
 

@@ -1,7 +1,8 @@
 """Walks, and logs, which tell long walks by rounds."""
 
-from turnsneeded.errors import NoLog, NoTable, NoWorld, TooMany
-from turnsneeded.judging import is_int, is_int_in, is_world
+from turnsneeded.checks import check_table, check_world
+from turnsneeded.errors import NoLog, TooMany
+from turnsneeded.judging import is_int, is_int_in
 
 DEEPEST_ROUNDS = 30
 LONGEST_WRITTEN = 5000
@@ -149,8 +150,7 @@ def item_span(program, item, side):
 def visits(program, log, table):
     """How often the walk of a log stands in a table, at first and behind each reading."""
     check_log(program, log)
-    if not is_int_in(table, 0, program.tables - 1):
-        raise NoTable()
+    check_table(program, table)
     if len(log) == 0:
         return 0
     counts = counts_of(program, log)
@@ -186,8 +186,7 @@ def is_closed(program, log):
 
 def is_turn(program, world, thing):
     """Whether a thing is a turn for a world."""
-    if not is_world(world):
-        raise NoWorld()
+    check_world(world)
     if not is_log(program, thing) or not is_closed(program, thing):
         return False
     sums = added(program, thing)

@@ -1,8 +1,9 @@
 """Timetables: what shows that no point waits for itself, and what it tells."""
 
-from turnsneeded.errors import NoBox, NoPoint, NoReading, NoTable, NoTimetable, NoWorld
+from turnsneeded.checks import check_box, check_place, check_table, check_world
+from turnsneeded.errors import NoReading, NoTimetable
 from turnsneeded.flows import is_side_row, row
-from turnsneeded.judging import is_box, is_int, is_int_in, is_row_of_ints, is_world
+from turnsneeded.judging import is_int, is_int_in
 from turnsneeded.levels import levels, reached, tables_of, turning_part
 from turnsneeded.ratios import weighed
 
@@ -50,8 +51,7 @@ def later_by(times, reading):
 
 def is_timetable(program, world, thing):
     """Whether a thing is a timetable."""
-    if not is_world(world):
-        raise NoWorld()
+    check_world(world)
     if not isinstance(thing, tuple) or len(thing) != program.tables:
         return False
     if not all([is_table_time(program, world, part) for part in thing]):
@@ -80,18 +80,10 @@ def check_timetable(program, thing):
         raise NoTimetable()
 
 
-def check_table(program, thing):
-    """Raises NoTable for what is no table."""
-    if not is_int_in(thing, 0, program.tables - 1):
-        raise NoTable()
-
-
 def time_at(program, timetable, table, point):
     """The time of a table at a point."""
     check_timetable(program, timetable)
-    check_table(program, table)
-    if not is_row_of_ints(point, program.sides):
-        raise NoPoint()
+    check_place(program, table, point)
     number, rows = timetable[table]
     return tuple([number] + [weighed(sides, point) + add for sides, add in rows])
 
@@ -108,8 +100,7 @@ def spread(program, timetable, table, box):
     """How many unlike times a table has in a box at most."""
     check_timetable(program, timetable)
     check_table(program, table)
-    if not is_box(box, program.sides):
-        raise NoBox()
+    check_box(program, box)
     many = 1
     for sides, _ in timetable[table][1]:
         many = many * (1 + sum([abs(part) * (size - 1) for part, size in zip(sides, box)]))

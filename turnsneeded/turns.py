@@ -13,13 +13,16 @@ def turn(program, world):
     part = turning_part(levels(program, world))
     if part is None:
         return None
-    amounts = flow(program, part, world)
-    walk = walk_round(program, part)
-    counts = counts_of(walk, len(amounts))
-    # So many times the flow that the walk, which leads through all tables, is a part of it.
-    times = max([1] + [-(-counts[k] // amounts[k]) for k in part])
-    left = [times * amount - count for amount, count in zip(amounts, counts)]
-    return with_rounds(program, part, walk, rounds_of(program, left))
+    begin = tables_of(program, part)[0]
+    walk = walk_round(program, part, begin)
+    left = left_over(flow(program, part, world), counts_of(walk, len(program.readings)))
+    return with_rounds(program, begin, walk, rounds_of(program, left))
+
+
+def left_over(amounts, counts):
+    """What is left of the amounts, made so many times that the counts, which have no others, are a part of them."""
+    times = max([1] + [-(-count // amount) for amount, count in zip(amounts, counts) if count > 0])
+    return [times * amount - count for amount, count in zip(amounts, counts)]
 
 
 def counts_of(walk, many):
@@ -30,12 +33,11 @@ def counts_of(walk, many):
     return counts
 
 
-def walk_round(program, part):
-    """The list of the readings of a walk from the first table of a part through all others and back."""
-    tables = tables_of(program, part)
+def walk_round(program, part, begin):
+    """The list of the readings of a walk from a table of a part through all others and back."""
     walk = []
-    at = tables[0]
-    for table in tables + tables[:1]:
+    at = begin
+    for table in tables_of(program, part) + (begin,):
         walk.extend(shortest_walk(program, part, at, table))
         at = table
     return walk
@@ -83,11 +85,10 @@ def closed_walk(program, amounts, first):
         walk.append(min([k for k, amount in enumerate(amounts) if amount > 0 and program.readings[k][0] == read]))
 
 
-def with_rounds(program, part, walk, rounds):
-    """The log of a walk through all tables of a part, with rounds where it first comes to their tables."""
-    at = tables_of(program, part)[0]
-    log = rounds_at(program, rounds, at)
-    met = {at: True}
+def with_rounds(program, begin, walk, rounds):
+    """The log of a walk from a table on, with rounds where it first comes to their tables."""
+    log = rounds_at(program, rounds, begin)
+    met = {begin: True}
     for k in walk:
         log.append(k)
         at = program.readings[k][1]
