@@ -1,4 +1,4 @@
-"""The names, arguments and files of the interface, as far as it has landed."""
+"""The names, arguments and files of the interface."""
 
 import ast
 import importlib
@@ -46,10 +46,29 @@ FUNCTIONS = {
         "worked": ["program", "meaning", "modulus", "border", "box"], "is_order": ["program", "box", "thing"],
         "ready": ["program", "box", "done"], "led": ["program", "box", "stranger"],
     },
+    "going": {"breakers": ["program", "world"], "shallower": ["program", "most"]},
 }
 CLASSES = {
     "programs": {"Program": {"__init__": ["self", "sides", "tables", "readings"], "__eq__": ["self", "other"]}},
     "tasks": {"Task": {"__init__": ["self", "rows", "amounts", "worths"], "__eq__": ["self", "other"]}},
+    "bench": {
+        "Bench": {
+            "__init__": ["self", "sides", "tables"], "add": ["self", "reading"], "drop": ["self", "reading"], "called": ["self", "names"],
+            "program": ["self"], "works": ["self", "world"], "depths": ["self", "world"], "turn": ["self", "world"],
+            "timetable": ["self", "world"], "back": ["self"], "deeds": ["self"], "copy": ["self"], "trying": ["self", "action"],
+        },
+    },
+    "sheets": {
+        "Sheet": {
+            "__init__": ["self", "program", "meaning", "modulus", "box"], "edge": ["self", "table", "point", "value"],
+            "fix": ["self", "table", "point", "value"], "loose": ["self", "table", "point"], "way": ["self", "table", "thing"],
+            "add": ["self", "reading"], "drop": ["self", "reading"], "undo": ["self"], "value": ["self", "table", "point"], "made": ["self"],
+            "due": ["self", "table", "point"], "all_values": ["self"], "edges": ["self"], "fixed": ["self"], "program": ["self"],
+            "meaning": ["self"], "plan": ["self"], "hanging": ["self", "table", "point"], "roots": ["self", "table", "point"],
+            "is_plan": ["self", "thing"], "copy": ["self"],
+        },
+    },
+    "desk": {"Desk": {"__init__": ["self"], "tell": ["self", "line"], "undoable": ["self"]}},
 }
 
 

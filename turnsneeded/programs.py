@@ -51,6 +51,11 @@ def program_of(sides, tables, readings):
     return program
 
 
+def copy_of(program):
+    """A program of its own that is equal to another."""
+    return program_of(program.sides, program.tables, program.readings)
+
+
 def renamed(program, names):
     """The program whose table k is called names[k]."""
     if not is_row_of_ints(names, program.tables) or sorted(names) != list(range(program.tables)):
