@@ -169,6 +169,12 @@ class Leading(unittest.TestCase):
         bench.called(names)
         self.assertEqual(names, (0,))
 
+    def test_what_is_done_to_a_program_that_was_told_is_not_done_to_the_bench(self):
+        bench = full_bench()
+        for told in (bench.program(), bench.copy().program(), bench.trying(lambda other: other.program())):
+            told.sides, told.tables, told.readings = 1, 1, ()
+            self.assertEqual(state(bench), state(full_bench()))
+
     def test_a_bench_is_equal_to_nothing_else(self):
         bench = Bench(1, 1)
         for thing in [*odd_things(), bench.program(), None]:

@@ -234,7 +234,9 @@ class JudgingRings(Cases):
             self.assertIs(is_ring_in(ROUND, (3,), thing), False)
         # A walk that ends elsewhere, and one that ends in another table.
         self.assertIs(is_ring_in(LINE, (3,), (0, (2,), (0,))), False)
-        self.assertIs(is_ring_in(Program(1, 2, ((0, 1, (0,)),)), (3,), (0, (2,), (0,))), False)
+        # A walk from one table to another is none, in whichever of them it is said to begin.
+        for table in (0, 1):
+            self.assertIs(is_ring_in(Program(1, 2, ((0, 1, (0,)),)), (3,), (table, (2,), (0,))), False)
 
     def test_odd_things(self):
         for program in (ROUND, STILL, EMPTY, GREAT):

@@ -129,6 +129,12 @@ class Chains(unittest.TestCase):
                 again = mixed(chance, nest(depth, sides))
                 self.all_shown(again, (depth,) * again.tables)
 
+    def test_rounds_made_often_of_long_steps(self):
+        for there, back in ((1000, 7), (10 ** 6 + 1, 10 ** 6), (7, 1000), (LONG, LONG - 1), (1, LONG)):
+            program = Program(2, 2, ((0, 0, (there, 0)), (0, 1, (0, 0)), (1, 0, (0, 1)), (1, 1, (-back, 0))))
+            self.all_shown(program, (2, 2))
+            self.all_shown(beside(program, stretched(program, LONG)), (2, 2, 2, 2))
+
     def test_tables_of_unlike_depths_beside_one_another(self):
         chance = random.Random(2)
         for one, other in ((1, 2), (2, 3), (1, 4), (3, 1)):

@@ -132,8 +132,9 @@ class Wrong(Cases):
 
     def test_names_of_one_eight_and_nine_letters(self):
         desk = Desk()
-        for name in ("a", "z", "abcdefgh", "zzzzzzzz", "names", "program", "none"):
+        for name in ("a", "z", "abcdefgh", "zzzzzzzz", "names", "program", "none", "undo", "drop", "show"):
             self.raised(desk, NoName, f"show {name}", "name", name)
+            self.raised(desk, NoName, f"drop {name}", "name", name)
             self.assertEqual(desk.tell(f"program {name} sides 1|tables 1|"), "ok")
             self.assertEqual(desk.tell(f"show {name}"), "sides 1|tables 1|")
         for name in ("abcdefghi", "A", "aB", "", "a1", "1", "a-b", "a_b", "a.b", "a|b", "a\tb", "\ta", "{", "`", "~"):

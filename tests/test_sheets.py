@@ -452,7 +452,6 @@ class Boxes(Cases):
         self.raised(NothingDone, sheet.undo)
         self.assertEqual(set(sheet.edges().values()), {0})
 
-
     def test_all_pairs_of_a_great_box_fixed_and_made_again(self):
         program, box = next(long_lines())
         sheet = Sheet(program, SUM, 10 ** 12, box)
@@ -681,6 +680,19 @@ class Plans(Cases):
         self.assertIs(sheet.is_plan(()), True)
         self.assertEqual(sheet.plan(), ())
 
+    def test_what_would_not_be_made_is_in_no_plan(self):
+        sheet = Sheet(LINE, SUM, 10, (4,))
+        sheet.value(0, (0,))
+        self.assertIs(sheet.is_plan(((0, (1,)), (0, (2,)), (0, (3,)))), True)
+        for wrong in ((0, (0,)), (0, (-1,)), (0, (4,))):
+            self.assertIs(sheet.is_plan(((0, (1,)), (0, (2,)), wrong)), False)
+            self.assertIs(sheet.is_plan((wrong, (0, (1,)), (0, (2,)))), False)
+        sheet.value(0, (3,))
+        sheet.fix(0, (2,), 5)
+        self.assertEqual(sheet.plan(), ((0, (3,)),))
+        for wrong in range(3):
+            self.assertIs(sheet.is_plan(((0, (wrong,)),)), False)
+
     def test_a_plan_leaves_out_what_is_fixed(self):
         sheet = Sheet(LINE, SUM, 10, (4,))
         sheet.fix(0, (1,), 1)
@@ -741,6 +753,15 @@ class Copies(Cases):
         sheet.all_values()
         self.assertEqual((program, held, ways, meaning), (DEEP, DEEP, (("sum", 1), ("less", 2)), (("sum", 1), ("less", 2))))
         self.assertEqual([edges, values], kept)
+
+    def test_what_is_done_to_a_program_that_was_told_is_not_done_to_the_sheet(self):
+        program = copy.deepcopy(DEEP)
+        sheet = Sheet(program, SUM * 2, 10, (2, 2))
+        held = self.state(sheet)
+        for told in (program, sheet.program(), sheet.copy().program()):
+            told.sides, told.tables, told.readings = 1, 1, ()
+            self.assertEqual(self.state(sheet), held)
+            self.assertEqual(sheet.program(), DEEP)
 
     def test_kinds_of_what_is_told(self):
         sheet = Sheet(DEEP, SUM * 2, 10, (2, 2))
